@@ -316,7 +316,7 @@ func TestMulDivRefuses(t *testing.T) {
 	})
 }
 
-// P1.3: from a on to 0 there is no way past either; the floor of one below 0 is never below a, as a is whole.
+// P1.3: the quotient lies between a and 0, and so does its floor, as a and 0 are whole.
 func TestMulDivByAPartIsNoFurther(t *testing.T) {
 	triples(func(a, b, c int64) {
 		if b < 0 || c < 1 || b > c {
